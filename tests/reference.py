@@ -1,0 +1,240 @@
+"""Programs for the tests, and a second, plainly written exploration of all states.
+
+Nothing here uses the package. A situation of a run is a tuple of the step, the values, the saved
+store, and the number of groups written at the step.
+"""
+
+import itertools
+import random
+
+TOTAL = (
+    ("i", "s", "t"),
+    (
+        ("save",),
+        ("add", "s", "s", "i"),
+        ("set", "t", 1),
+        ("add", "i", "i", "t"),
+        ("set", "t", 4),
+        ("less", "t", "i", "t"),
+        ("if", "t", 0),
+        ("stop", "s"),
+    ),
+)
+ZERO = (0, 0, 0)
+TORN = ((0,), (("i",), ("s",)))
+WHOLE = ((0,), (("i", "s"),))
+EMPTY = ((), ())
+
+# Values that are no program, no store, no plan, and no number.
+ODD = [None, True, False, "save", b"save", [], (), {}, set(), {1: 2}, object(), len, ((),), ((), (), ()), [[]], "", -1]
+
+
+def random_program(seed, variables, steps, saves):
+    """A program with the given numbers of variables, of steps, and of saves among them."""
+    source = random.Random(seed)
+    names = ("a", "b", "c", "d")[:variables]
+    places = source.sample(range(steps - 1), saves)
+    rows = []
+    for k in range(steps):
+        x, y, z = (source.choice(names) for _ in range(3))
+        if k in places:
+            rows.append(("save",))
+        elif k == steps - 1:
+            rows.append(("stop", x))
+        else:
+            rows.append(source.choice([
+                ("set", x, source.randrange(8)), ("set", x, source.randrange(2)), ("copy", x, y), ("add", x, y, z),
+                ("add", x, y, z), ("sub", x, y, z), ("less", x, y, z), ("if", x, source.randrange(steps)),
+                ("if", x, source.randrange(steps)), ("if", x, source.randrange(steps)),
+            ]))
+    return names, tuple(rows)
+
+
+def some_inputs(program, many):
+    """At most this number of inputs of a program."""
+    stores = itertools.product((0, 1, 3), repeat=len(program[0]))
+    return [store for store in stores if end(program, 0, store) is not None][:many]
+
+
+def after_step(program, step, values):
+    """The next step and the values after one step of the plain run; the next step is None after the stop."""
+    names, steps = program
+    now = dict(zip(names, values))
+    following = step + 1
+    match steps[step]:
+        case ("set", x, n):
+            now[x] = n
+        case ("copy", x, y):
+            now[x] = now[y]
+        case ("add", x, y, z):
+            now[x] = (now[y] + now[z]) % 8
+        case ("sub", x, y, z):
+            now[x] = (now[y] - now[z]) % 8
+        case ("less", x, y, z):
+            now[x] = int(now[y] < now[z])
+        case ("if", x, k):
+            following = k if now[x] else following
+        case ("go", k):
+            following = k
+        case ("stop", _):
+            following = None
+    return following, tuple(now[name] for name in names)
+
+
+def end(program, step, values):
+    """The result and the length of the plain run from a step on, or None."""
+    seen = set()
+    while (step, values) not in seen:
+        seen.add((step, values))
+        following, after = after_step(program, step, values)
+        if following is None:
+            return values[program[0].index(program[1][step][1])], len(seen)
+        step, values = following, after
+    return None
+
+
+def after_move(program, plan, situation):
+    """The situation after the next move; its step is None after the stop."""
+    step, values, saved, written = situation
+    saves, groups = plan
+    if step in saves and groups:
+        saved = tuple(
+            values[k] if name in groups[written] else saved[k] for k, name in enumerate(program[0])
+        )
+        if written < len(groups) - 1:
+            return step, values, saved, written + 1
+        return step + 1, values, saved, 0
+    following, after = after_step(program, step, values)
+    return following, after, saved, 0
+
+
+def situations(program, plan, value):
+    """All situations before the stop that can be reached, each with the fewest crashes up to it."""
+    found = {}
+    rows, crashes = [(0, value, value, 0)], 0
+    while rows:
+        saved = []
+        while rows:
+            situation = rows.pop()
+            if situation[0] is None or situation in found:
+                continue
+            found[situation] = crashes
+            saved.append(situation[2])
+            rows.append(after_move(program, plan, situation))
+        crashes += 1
+        rows = [row for row in ((0, store, store, 0) for store in saved) if row not in found]
+    return found
+
+
+class Ends:
+    """The ends of the plain runs of a program, each computed once."""
+
+    def __init__(self, program):
+        self.program = program
+        self.known = {}
+
+    def of(self, step, values):
+        if (step, values) not in self.known:
+            self.known[step, values] = end(self.program, step, values)
+        return self.known[step, values]
+
+
+def decision(program, plan, value, loss=None, ends=None):
+    """For one input: the stores, the greatest cost, and the fewest crashes of a bad run or None."""
+    ends = ends or Ends(program)
+    result = ends.of(0, value)[0]
+    stores, costs, bad = set(), [], []
+    for (step, values, saved, _), crashes in situations(program, plan, value).items():
+        stores.add(saved)
+        again, without = ends.of(0, saved), ends.of(step, values)
+        if again and without:
+            costs.append(again[1] - without[1])
+        if again is None or again[0] != result:
+            bad.append(crashes + 1)
+        elif loss is not None and without and costs[-1] > loss:
+            bad.append(crashes + 1)
+    return sorted(stores), max(costs), min(bad, default=None)
+
+
+def is_bad(program, plan, value, crashes, loss=None):
+    """Whether a list of numbers describes a bad run, move by move."""
+    store, without = value, None
+    for moves in crashes:
+        situation = (0, store, store, 0)
+        for _ in range(moves):
+            situation = after_move(program, plan, situation)
+            if situation[0] is None:
+                return False
+        store, without = situation[2], end(program, situation[0], situation[1])
+    if not crashes:
+        return False
+    again = end(program, 0, store)
+    if again is None or again[0] != end(program, 0, value)[0]:
+        return True
+    return loss is not None and without is not None and again[1] - without[1] > loss
+
+
+def key(plan):
+    """The order of plans."""
+    saves, groups = plan
+    return sum(map(len, groups)), len(saves), len(groups), plan
+
+
+def every_plan(program):
+    """All plans that save something, and the empty one, in their order."""
+    names, steps = program
+    marks = [k for k, step in enumerate(steps) if step == ("save",)]
+    chosen = [rows for size in range(1, len(marks) + 1) for rows in itertools.combinations(marks, size)]
+    groups = set()
+    # A mark for each variable: 0 if it is not saved, otherwise the place of its group.
+    for places in itertools.product(range(len(names) + 1), repeat=len(names)):
+        used = sorted(set(places) - {0})
+        groups.add(tuple(tuple(n for n, place in zip(names, places) if place == mark) for mark in used))
+    groups.discard(())
+    return sorted([EMPTY] + [(saves, row) for saves in chosen for row in groups], key=key)
+
+
+def good_plans(program, inputs, loss=None):
+    """The sufficient plans among all plans."""
+    ends = Ends(program)
+    return [
+        plan for plan in every_plan(program)
+        if all(decision(program, plan, value, loss, ends)[2] is None for value in inputs)
+    ]
+
+
+def has_all(one, other):
+    """Whether a plan contains another one."""
+    return set(one[0]) >= set(other[0]) and set(sum(one[1], ())) >= set(sum(other[1], ()))
+
+
+def halves(plan):
+    """The plans that split one group of a plan into two."""
+    saves, groups = plan
+    for k, group in enumerate(groups):
+        for size in range(1, len(group)):
+            for first in itertools.combinations(group, size):
+                second = tuple(name for name in group if name not in first)
+                yield saves, groups[:k] + (first, second) + groups[k + 1:]
+
+
+def splittings(plan):
+    """All plans that split a plan."""
+    found = set(halves(plan))
+    for one in list(found):
+        found |= splittings(one)
+    return found
+
+
+def changed(program, plan):
+    """The plans that differ from a plan as the second plan of a breach from the first one."""
+    names, steps = program
+    saves, groups = plan
+    marks = [k for k, step in enumerate(steps) if step == ("save",)]
+    if plan == EMPTY:
+        return {((mark,), ((name,),)) for mark in marks for name in names}
+    found = set(halves(plan))
+    found |= {(tuple(sorted(saves + (mark,))), groups) for mark in marks if mark not in saves}
+    for name in set(names) - set(sum(groups, ())):
+        found |= {(saves, groups[:k] + ((name,),) + groups[k:]) for k in range(len(groups) + 1)}
+    return found

@@ -1,0 +1,114 @@
+"""The answers: names, fields, equality, and what is copied."""
+
+import unittest
+from unittest import mock
+
+from tornsaves.deciding import Insufficient, Sufficient
+from tornsaves.evidence import Evidence, WithRuns
+from tornsaves.families import Family
+
+CLASSES = [Evidence, WithRuns, Sufficient, Insufficient, Family]
+
+
+class Answers(unittest.TestCase):
+    def test_names(self):
+        names = [made.NAME for made in CLASSES]
+        self.assertEqual(len(set(names)), len(names))
+        for made, name in zip(CLASSES, names):
+            self.assertIs(type(name), str)
+            self.assertIn("NAME", vars(made))
+
+    def test_subclasses(self):
+        self.assertTrue(issubclass(WithRuns, Evidence))
+        self.assertTrue(issubclass(Sufficient, Evidence))
+        self.assertTrue(issubclass(Insufficient, Evidence))
+        self.assertTrue(issubclass(Family, WithRuns))
+
+    def test_fields(self):
+        self.assertEqual(Evidence().fields, [])
+        self.assertEqual(WithRuns([((0,), [1, 2])]).fields, [[((0,), [1, 2])]])
+        self.assertEqual(Sufficient([[(0,)], [(1,), (2,)]]).fields, [[[(0,)], [(1,), (2,)]]])
+        self.assertEqual(Insufficient((0,), [3]).fields, [(0,), [3]])
+        self.assertEqual(Family([((), ())], [((0,), [1])]).fields, [[((), ())], [((0,), [1])]])
+
+    def test_equality(self):
+        self.assertEqual(Evidence(), Evidence())
+        self.assertEqual(WithRuns([((0,), [1])]), WithRuns([((0,), [1])]))
+        self.assertNotEqual(WithRuns([((0,), [1])]), WithRuns([((0,), [2])]))
+        self.assertNotEqual(WithRuns([]), Evidence())
+        self.assertNotEqual(WithRuns([]), Sufficient([]))
+        self.assertEqual(Insufficient((0,), [3]), Insufficient((0,), [3]))
+        self.assertNotEqual(Insufficient((0,), [3]), Insufficient((1,), [3]))
+        self.assertNotEqual(Family([], [((0,), [1])]), Family([((), ())], [((0,), [1])]))
+        self.assertFalse(Insufficient((0,), [3]) != Insufficient((0,), [3]))
+
+    def test_not_equal_to_other_values(self):
+        for answer in [Evidence(), WithRuns([]), Sufficient([]), Insufficient((0,), []), Family([], [])]:
+            for other in [None, 0, True, [], answer.fields, answer.NAME, (answer.NAME, answer.fields), object(), Evidence]:
+                self.assertFalse(answer == other)
+                self.assertTrue(answer != other)
+            self.assertFalse(answer == mock.ANY)
+
+    def test_lists_are_copied(self):
+        runs, stores, crashes, rows = [((0,), [1])], [[(0,)]], [3], [((), ())]
+        made = [WithRuns(runs), Sufficient(stores), Insufficient((0,), crashes), Family(rows, runs)]
+        before = [answer.fields for answer in made]
+        runs[0][1].append(5)
+        runs.append(((0,), []))
+        stores[0].append((1,))
+        stores.append([])
+        crashes.append(4)
+        rows.append(None)
+        self.assertEqual([answer.fields for answer in made], before)
+
+    def test_arguments_are_not_changed(self):
+        runs, stores = [((0,), [1])], [[(1,), (0,)]]
+        WithRuns(runs).fields, Family([], runs), Sufficient(stores).fields
+        self.assertEqual((runs, stores), ([((0,), [1])], [[(1,), (0,)]]))
+
+    def test_fields_are_new(self):
+        for answer in [WithRuns([((0,), [1])]), Family([((), ())], [((0,), [1])])]:
+            before = answer.fields
+            for _, numbers in answer.fields[-1]:
+                numbers.append(9)
+            for field in answer.fields:
+                field.clear()
+            answer.fields.clear()
+            self.assertEqual(answer.fields, before)
+        answer = Sufficient([[(0,)]])
+        answer.fields[0][0].append((1,))
+        answer.fields[0].clear()
+        self.assertEqual(answer.fields, [[[(0,)]]])
+        answer = Insufficient((0,), [3])
+        answer.fields[1].append(4)
+        self.assertEqual(answer.fields, [(0,), [3]])
+
+    def test_fields_and_equality_follow_the_current_fields(self):
+        answer = Insufficient((0,), [3])
+        answer.value = (1,)
+        answer.crashes.append(4)
+        self.assertEqual(answer.fields, [(1,), [3, 4]])
+        self.assertEqual(answer, Insufficient((1,), [3, 4]))
+        answer = Sufficient([[(0,)]])
+        answer.stores[0].append((1,))
+        self.assertEqual(answer, Sufficient([[(0,), (1,)]]))
+        answer.stores = []
+        self.assertEqual(answer.fields, [[]])
+        answer = WithRuns([((0,), [1])])
+        answer.runs[0][1].append(2)
+        self.assertEqual(answer.fields, [[((0,), [1, 2])]])
+        answer = Family([], [])
+        answer.plans.append(((), ()))
+        answer.runs.append(((0,), [1]))
+        self.assertEqual(answer, Family([((), ())], [((0,), [1])]))
+
+    def test_are_from(self):
+        answer = WithRuns([((0,), [1]), ((1,), []), ((0,), [2])])
+        self.assertIs(answer.are_from([(0,), (1,), (2,)]), True)
+        self.assertIs(answer.are_from(((1,), (0,))), True)
+        self.assertIs(answer.are_from([(0,)]), False)
+        self.assertIs(answer.are_from([]), False)
+        self.assertIs(WithRuns([]).are_from([]), True)
+        answer.runs.append(((2,), []))
+        self.assertIs(answer.are_from([(0,), (1,)]), False)
+        self.assertIs(Family([], [((0,), [])]).are_from([(0,)]), True)

@@ -1,0 +1,1 @@
+"""Which values must be saved together, so that a program survives crashes."""
