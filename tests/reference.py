@@ -6,6 +6,7 @@ store, and the number of groups written at the step.
 
 import itertools
 import random
+from unittest.mock import ANY
 
 TOTAL = (
     ("i", "s", "t"),
@@ -25,8 +26,19 @@ TORN = ((0,), (("i",), ("s",)))
 WHOLE = ((0,), (("i", "s"),))
 EMPTY = ((), ())
 
-# Values that are no program, no store, no plan, and no number.
-ODD = [None, True, False, "save", b"save", [], (), {}, set(), {1: 2}, object(), len, ((),), ((), (), ()), [[]], "", -1]
+
+
+class Hostile:
+    """A value that cannot be compared."""
+
+    __hash__ = None
+
+    def __eq__(self, other):
+        raise RuntimeError("compared")
+
+
+# Values that are no program, no store, no plan, and no number. ANY is equal to everything.
+ODD = [ANY, Hostile()] + [None, True, False, "save", b"save", [], (), {}, set(), {1: 2}, object(), len, ((),), ((), (), ()), [[]], "", -1]
 
 
 def random_program(seed, variables, steps, saves):

@@ -52,14 +52,15 @@ class Answers(unittest.TestCase):
     def test_lists_are_copied(self):
         runs, stores, crashes, rows = [((0,), [1])], [[(0,)]], [3], [((), ())]
         made = [WithRuns(runs), Sufficient(stores), Insufficient((0,), crashes), Family(rows, runs)]
-        before = [answer.fields for answer in made]
         runs[0][1].append(5)
         runs.append(((0,), []))
         stores[0].append((1,))
         stores.append([])
         crashes.append(4)
         rows.append(None)
-        self.assertEqual([answer.fields for answer in made], before)
+        self.assertEqual([answer.fields for answer in made], [
+            [[((0,), [1])]], [[[(0,)]]], [(0,), [3]], [[((), ())], [((0,), [1])]],
+        ])
 
     def test_arguments_are_not_changed(self):
         runs, stores = [((0,), [1])], [[(1,), (0,)]]
@@ -67,14 +68,15 @@ class Answers(unittest.TestCase):
         self.assertEqual((runs, stores), ([((0,), [1])], [[(1,), (0,)]]))
 
     def test_fields_are_new(self):
-        for answer in [WithRuns([((0,), [1])]), Family([((), ())], [((0,), [1])])]:
-            before = answer.fields
+        for answer, fields in [
+            (WithRuns([((0,), [1])]), [[((0,), [1])]]), (Family([((), ())], [((0,), [1])]), [[((), ())], [((0,), [1])]]),
+        ]:
             for _, numbers in answer.fields[-1]:
                 numbers.append(9)
             for field in answer.fields:
                 field.clear()
             answer.fields.clear()
-            self.assertEqual(answer.fields, before)
+            self.assertEqual(answer.fields, fields)
         answer = Sufficient([[(0,)]])
         answer.fields[0][0].append((1,))
         answer.fields[0].clear()

@@ -15,6 +15,10 @@ THREE_SAVES = (("a",), (("save",), ("save",), ("save",), ("stop", "a")))
 LISTS = [sufficient_plans, minimal_plans, finest_plans, breaches]
 
 
+# Two pieces of work, each of which a save can make good.
+PIECES = (("a", "b"), (
+    ("if", "b", 6), ("if", "a", 3), ("set", "a", 1), ("save",), ("copy", "b", "b"), ("set", "b", 1), ("save",), ("stop", "b"),
+))
 # Arguments of `random_program`, the number of inputs, and a loss: families with much to sort out.
 CHOSEN = [
     (65, 3, 10, 2, 2, None), (83, 3, 10, 2, 2, None), (135, 3, 8, 2, 2, None), (171, 3, 8, 2, 2, 6),
@@ -22,7 +26,8 @@ CHOSEN = [
     (509, 3, 10, 2, 2, None), (689, 3, 10, 2, 2, None), (688, 2, 9, 1, 1, 6), (691, 3, 6, 2, 2, 9),
     (715, 3, 6, 2, 2, None), (767, 3, 10, 2, 2, 8), (1559, 3, 10, 2, 2, 8), (3379, 3, 10, 2, 2, 8),
     (3421, 3, 10, 2, 2, 8), (4675, 3, 11, 2, 2, 9), (8066, 2, 7, 1, 1, 5), (10085, 3, 10, 2, 2, 8),
-    (13941, 3, 9, 2, 2, 7), (17364, 2, 9, 1, 1, 7), (17917, 3, 9, 2, 2, 7),
+    (13941, 3, 9, 2, 2, 7), (17364, 2, 9, 1, 1, 7), (17917, 3, 9, 2, 2, 7), (22902, 2, 10, 2, 1, 8),
+    (41446, 2, 11, 2, 1, 9), (44721, 3, 10, 1, 2, 8),
 ]
 
 
@@ -60,6 +65,22 @@ class Lists(unittest.TestCase):
             WHOLE, ((0,), (("i", "s"), ("t",))), ((0,), (("t",), ("i", "s"))),
         ])
         self.assertEqual(breaches(TOTAL, [ZERO])[:2], [(EMPTY, ((0,), (("i",),))), (EMPTY, ((0,), (("s",),)))])
+
+    def test_minimal_plans_with_the_same_variables_and_saves(self):
+        both = [((3, 6), (("a", "b"),)), ((3, 6), (("a",), ("b",))), ((3, 6), (("b",), ("a",)))]
+        self.assertEqual(minimal_plans(PIECES, [(0, 0)], loss=5), both)
+        self.assertEqual(sufficient_plans(PIECES, [(0, 0)], loss=5), both)
+        self.assertEqual(finest_plans(PIECES, [(0, 0)], loss=5), both[1:])
+        self.assertEqual(minimal_plans(PIECES, [(0, 0)]), [EMPTY])
+
+    def test_minimal_plans_of_different_sizes(self):
+        program = (("a", "b"), (
+            ("if", "a", 5), ("less", "a", "b", "a"), ("add", "a", "a", "a"), ("set", "b", 1), ("sub", "a", "b", "a"), ("save",),
+            ("add", "a", "a", "b"), ("save",), ("set", "b", 0), ("stop", "a"),
+        ))
+        self.assertEqual(minimal_plans(program, [(0, 0)], loss=8), [
+            ((7,), (("a",),)), ((5,), (("a", "b"),)), ((5,), (("b",), ("a",))),
+        ])
 
     def test_sufficient_plans_against_the_plain_exploration(self):
         for program, inputs, loss, good in CASES:
@@ -165,13 +186,18 @@ class Certificate(unittest.TestCase):
         self.assertIs(found.is_correct(TOTAL, [ZERO]), True)
 
     def test_a_crash_of_an_endless_run_has_no_cost(self):
-        found = family(ROUND, [(0, 0)], loss=3)
-        self.assertIs(found.is_correct(ROUND, [(0, 0)], loss=3), True)
-        for moves in [0, 1, 13, 14, 15, 16, 17, 18, 19, 20, 999, 1000000]:
-            runs = [((0, 0), [3, moves])]
-            other = [plan for plan in every_plan(ROUND) if plan not in found.plans]
-            enough = moves < 1000 and all(self.has_bad(ROUND, plan, runs, 3) for plan in other)
-            self.assertIs(Family(found.plans, runs).is_correct(ROUND, [(0, 0)], loss=3), enough)
+        # From 1 on, the run never stops; after 9 moves of it, the saved value is that of the input again.
+        program = (("a",), (
+            ("if", "a", 3), ("set", "a", 1), ("go", 6), ("add", "a", "a", "a"), ("save",), ("go", 3), ("save",), ("stop", "a"),
+        ))
+        good = [EMPTY, ((4,), (("a",),))]
+        for loss in (None, 4):
+            self.assertEqual(sufficient_plans(program, [(0,)], loss=loss), good)
+            for moves in [*range(20), 1000, 1000000]:
+                found = Family(good, [((0,), [4, moves])])
+                self.assertIs(found.is_correct(program, [(0,)], loss=loss), moves < 9, moves)
+                if moves < 20:
+                    self.assertEqual(self.has_bad(program, ((4, 6), (("a",),)), found.runs, loss), moves < 9)
 
     def test_plans_must_be_all_and_in_order(self):
         found = family(TOTAL, [ZERO])

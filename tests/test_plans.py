@@ -1,8 +1,9 @@
 """Points 4, 10 and 11: the form of plans, their order, and which contain or split others."""
 
 import unittest
+from unittest.mock import ANY
 
-from tests.reference import EMPTY, ODD, TOTAL, every_plan, has_all, key, random_program, splittings
+from tests.reference import EMPTY, ODD, TOTAL, Hostile, every_plan, has_all, key, random_program, splittings
 from tornsaves.errors import InvalidPlan, InvalidProgram, TooLarge
 from tornsaves.plans import contains, plans, saved_variables, splits
 
@@ -20,6 +21,8 @@ BAD_PLANS = ODD + [
     ((0,), (("b", "a"),)), ((0,), (("c", "a"),)), ((0,), (("a",), ("a",))), ((0,), (("a", "b"), ("b", "c"))),
     ((0,), (("d",),)), ((0,), ("a",)), ((0,), "a"), ((0,), ((1,),)), ((0,), ((None,),)), ((0,), ((["a"],),)),
     ((0,), (({},),)), ((0,), {("a",): 1}), ((0,), None), (None, ()), ((0,), ((True,),)),
+    ((0,), ((ANY,),)), ((0,), ((ANY, ANY, ANY),)), ((0,), (("a", Hostile()),)), ((ANY, ANY), ()), ((0, Hostile()), ()),
+    (ANY, ()), ((0,), ANY), (Hostile(), ()), ((0,), (Hostile(),)),
 ]
 
 

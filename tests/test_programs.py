@@ -1,8 +1,9 @@
 """Points 1 to 3."""
 
 import unittest
+from unittest.mock import ANY
 
-from tests.reference import ODD, TOTAL, ZERO, end, random_program
+from tests.reference import ODD, TOTAL, ZERO, Hostile, end, random_program
 from tornsaves.errors import InvalidProgram, InvalidStore
 from tornsaves.programs import is_program, plain, save_steps
 
@@ -46,7 +47,8 @@ class IsProgram(unittest.TestCase):
             ("if", 0, "a"), ("go", 2), ("go", -1), ("go", True), ("go",), ("go", "a"), ("save", "a"), ("save", ()),
             ("stop",), ("stop", "c"), ("stop", 0), ("stop", "a", "b"), ("mul", "a", "b", "b"), (), ("",), ("Set", "a", 1),
             ["save"], "save", ("set", ["a"], 1), (["save"],), (("save",),), ({},), (None,), None, 5, True, {"save": 1},
-            ("set", "ab", 1), ("set", "", 1),
+            ("set", "ab", 1), ("set", "", 1), (ANY,), (Hostile(),), ("copy", "a", ANY), ("copy", "a", Hostile()),
+            ("set", "a", ANY), ("set", "a", Hostile()), ("go", Hostile()), ("if", ANY, 0),
         ]:
             self.assertNo(program(step, STOP))
 
@@ -87,6 +89,11 @@ class SaveSteps(unittest.TestCase):
         self.assertEqual(save_steps(TOTAL), [0])
         self.assertEqual(save_steps(program(STOP)), [])
         self.assertEqual(save_steps(program(("save",), STOP, ("save",), ("save",), STOP)), [0, 2, 3])
+
+    def test_variables_with_the_names_of_steps(self):
+        words = (("save", "if", "stop"), (("copy", "if", "save"), ("save",), ("if", "save", 0), ("stop", "save")))
+        self.assertEqual(save_steps(words), [1])
+        self.assertEqual(plain(words, (0, 3, 4)), (0, 4))
 
     def test_answers_are_new(self):
         save_steps(TOTAL).append(5)
@@ -144,7 +151,7 @@ class Plain(unittest.TestCase):
             self.assertRaises(InvalidProgram, plain, value, ZERO)
             self.assertRaises(InvalidStore, plain, TOTAL, value)
         for store in [(0, 0), (0, 0, 0, 0), [0, 0, 0], (0, 0, 8), (0, -1, 0), (True, 0, 0), (0, 0, False), (0, 0, "0"),
-                      (0, 0, None), (0, 0, (0,)), {0: 0, 1: 0, 2: 0}, "000", b"000"]:
+                      (0, 0, None), (0, 0, ANY), (0, 0, Hostile()), (0, 0, (0,)), {0: 0, 1: 0, 2: 0}, "000", b"000"]:
             self.assertRaises(InvalidStore, plain, TOTAL, store)
 
     def test_the_error_documented_first_is_raised(self):

@@ -41,12 +41,20 @@ class Paths:
                 found = (length + 1, result, earlier if earlier[0] in self.saves else save)
             self.known[earlier] = found
 
+    def is_wrong(self, store, value):
+        """Whether the run from a saved store does not stop, or not with the result of an input."""
+        return self.ahead((0, store))[1] != self.ahead((0, value))[1]
+
+    def cost(self, store, left):
+        """The cost of a crash with a saved store and a number of steps still to be executed."""
+        return self.ahead((0, store))[0] - left
+
     def stretches(self, groups, store, passed):
         """The stretches of a run from a saved store in which the saved store does not change.
 
         The run stops. Each stretch is a triple: the number of moves up to its last crash, the saved
-        store, and the number of steps that are still to be executed at this crash. The list ends
-        after a save that has been passed; the others are added to those.
+        store, and the number of steps that are still to be executed at this crash. The list ends at
+        the first save that is among the passed ones, a dict to which the saves before it are added.
         """
         found = []
         moves = 0
@@ -104,17 +112,16 @@ class Search:
             if self._is_bad(reached, left):
                 self.bad = self._crashes_up_to(store) + [moves]
                 return []
-            self.worst = max(self.worst, self.paths.ahead((0, reached))[0] - left)
+            self.worst = max(self.worst, self.paths.cost(reached, left))
             if reached not in self.origins:
                 self.origins[reached] = (store, moves)
                 found.append(reached)
         return found
 
     def _is_bad(self, reached, left):
-        length, result, _ = self.paths.ahead((0, reached))
-        if length is None or result != self.paths.ahead((0, self.value))[1]:
+        if self.paths.is_wrong(reached, self.value):
             return True
-        return self.loss is not None and length - left > self.loss
+        return self.loss is not None and self.paths.cost(reached, left) > self.loss
 
     def _crashes_up_to(self, store):
         crashes = []
@@ -141,10 +148,9 @@ class Judge:
             if crashed is None:
                 return False
             store, left = crashed
-        length, result, _ = self.paths.ahead((0, store))
-        if length is None or result != self.paths.ahead((0, value))[1]:
+        if self.paths.is_wrong(store, value):
             return True
-        return self.loss is not None and left is not None and length - left > self.loss
+        return self.loss is not None and left is not None and self.paths.cost(store, left) > self.loss
 
     def _crashed(self, store, moves):
         """The saved store and the steps still to be executed at a crash, or None if it is not possible.
