@@ -27,7 +27,6 @@ WHOLE = ((0,), (("i", "s"),))
 EMPTY = ((), ())
 
 
-
 class Hostile:
     """A value that cannot be compared."""
 
@@ -197,13 +196,24 @@ def every_plan(program):
     names, steps = program
     marks = [k for k, step in enumerate(steps) if step == ("save",)]
     chosen = [rows for size in range(1, len(marks) + 1) for rows in itertools.combinations(marks, size)]
+    groups = [row for row in groupings_of(names) if row]
+    return sorted([EMPTY] + [(saves, row) for saves in chosen for row in groups], key=key)
+
+
+def groupings_of(names):
+    """All tuples of groups of some of the variables."""
     groups = set()
     # A mark for each variable: 0 if it is not saved, otherwise the place of its group.
     for places in itertools.product(range(len(names) + 1), repeat=len(names)):
         used = sorted(set(places) - {0})
         groups.add(tuple(tuple(n for n, place in zip(names, places) if place == mark) for mark in used))
-    groups.discard(())
-    return sorted([EMPTY] + [(saves, row) for saves in chosen for row in groups], key=key)
+    return groups
+
+
+def every_grouping(names):
+    """All groupings with exactly these variables, in their order."""
+    found = [groups for groups in groupings_of(names) if len(sum(groups, ())) == len(names)]
+    return sorted(found, key=lambda groups: (len(groups), groups))
 
 
 def good_plans(program, inputs, loss=None):
@@ -250,3 +260,88 @@ def changed(program, plan):
     for name in set(names) - set(sum(groups, ())):
         found |= {(saves, groups[:k] + ((name,),) + groups[k:]) for k in range(len(groups) + 1)}
     return found
+
+
+def good_groupings(program, saves, names, inputs, loss=None):
+    """The sufficient groupings among all groupings."""
+    ends = Ends(program)
+    return [
+        groups for groups in every_grouping(names)
+        if all(decision(program, (saves, groups), value, loss, ends)[2] is None for value in inputs)
+    ]
+
+
+def leads(groupings, x, y):
+    """Whether one of some groupings has the group of x ahead of that of y."""
+    return any(
+        [x in group for group in groups].index(True) < [y in group for group in groups].index(True) for groups in groupings
+    )
+
+
+def price(program, plan, weights):
+    """The cost of a plan, added up one by one."""
+    names, steps = program
+    saves, groups = plan
+    for_variables, for_saves, for_group = weights
+    marks = [k for k, step in enumerate(steps) if step == ("save",)]
+    found = 0
+    for group in groups:
+        found += for_group
+        for name in group:
+            found += for_variables[names.index(name)]
+    for save in saves:
+        found += for_saves[marks.index(save)]
+    return found
+
+
+def greatest(program, plan, inputs, ends=None):
+    """The greatest cost of a crash in runs from some inputs, or None if the plan is not sufficient."""
+    rows = [decision(program, plan, value, None, ends) for value in inputs]
+    return None if any(bad is not None for _, _, bad in rows) else max(cost for _, cost, _ in rows)
+
+
+def with_saves(program, positions):
+    """A program with a save before each of some steps."""
+    names, steps = program
+    rows, places = [], {}
+    for k, step in enumerate(steps):
+        places[k] = len(rows)
+        rows += [("save",), step] if k in positions else [step]
+    return names, tuple((*row[:-1], places[row[-1]]) if row[0] in ("if", "go") else row for row in rows)
+
+
+def place_losses(program, groups, inputs):
+    """For all positions, fewer ones first, then as tuples: the greatest cost of a crash, or None."""
+    found = []
+    for size in range(3):
+        for positions in itertools.combinations(range(len(program[1])), size):
+            longer = with_saves(program, positions)
+            saves = tuple(k for k, step in enumerate(longer[1]) if step == ("save",))
+            found.append((positions, greatest(longer, (saves, groups), inputs, Ends(longer))))
+    return found
+
+
+def guarded_program(seed, variables, tests, saves):
+    """A program that begins with tests of variables, works, saves, and stops: torn saves lead it astray."""
+    source = random.Random(seed)
+    names = ("a", "b", "c", "d")[:variables]
+    many = tests + 5 + saves
+    guards = [("if", source.choice(names), source.randrange(tests, many)) for _ in range(tests)]
+    work = [
+        source.choice([
+            ("set", x, source.randrange(1, 4)), ("set", x, 1), ("copy", x, y), ("less", x, y, z), ("add", x, x, y),
+            ("sub", x, x, y), ("if", x, source.randrange(many)),
+        ])
+        for x, y, z in ([source.choice(names) for _ in range(3)] for _ in range(4))
+    ]
+    for _ in range(saves):
+        work.insert(source.randrange(1, len(work) + 1), ("save",))
+    return names, (*guards, *work, ("stop", source.choice(names)))
+
+
+def renamed(program):
+    """The same program with variables whose names do not ascend."""
+    names, steps = program
+    others = dict(zip(("a", "b", "c", "d"), ("z", "b", "yy", "a")))
+    words = [(row[0], *(others[part] if part in names else part for part in row[1:])) for row in steps]
+    return tuple(others[name] for name in names), tuple(words)

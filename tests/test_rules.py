@@ -33,12 +33,27 @@ INTERFACE = {
         "family": "(program, inputs, *, loss=None)", "Family": "(plans, runs)",
     },
     "evidence": {"Evidence": "()", "WithRuns": "(runs)"},
+    "dependence": {
+        "sufficient_groupings": "(program, saves, names, inputs, *, loss=None)",
+        "finest_groupings": "(program, saves, names, inputs, *, loss=None)",
+        "dependences": "(program, saves, names, inputs, *, loss=None)", "Dependences": "(together, first, shown, runs)",
+    },
+    "costs": {
+        "plan_cost": "(program, plan, weights)", "cheapest": "(program, inputs, weights, *, loss=None)",
+        "Cheapest": "(plan, cost, runs)", "frontier": "(program, inputs, weights)",
+    },
+    "placing": {
+        "extended": "(program, *positions)", "best_positions": "(program, groups, inputs, *, loss=None)",
+        "Placed": "(positions, loss)",
+    },
 }
 METHODS = {
     ("deciding", "Sufficient", "is_correct"): "(self, program, plan, inputs, *, loss=None)",
     ("deciding", "Insufficient", "is_correct"): "(self, program, plan, inputs, *, loss=None)",
     ("families", "Family", "is_correct"): "(self, program, inputs, *, loss=None)",
     ("evidence", "WithRuns", "are_from"): "(self, inputs)",
+    ("dependence", "Dependences", "is_correct"): "(self, program, saves, names, inputs, *, loss=None)",
+    ("costs", "Cheapest", "is_correct"): "(self, program, inputs, weights, *, loss=None)",
 }
 
 

@@ -36,14 +36,34 @@ def paths_of(program, plan):
     return Paths(program, plan[0] if plan[1] else ())
 
 
+def _searches(paths, groups, inputs, loss):
+    return [Search(paths, groups, value, loss) for value in inputs]
+
+
+def _shortest_failure(searches):
+    """The search with a bad run that has the fewest crashes, or None."""
+    failed = [search for search in searches if search.bad is not None]
+    return min(failed, key=lambda search: len(search.bad)) if failed else None
+
+
+def _worst_of(searches):
+    """The greatest cost of a crash in searches without a bad run."""
+    return max([search.worst for search in searches])
+
+
 def decided(paths, groups, inputs, loss):
     """The decision for groups that are written at the saves of the paths."""
-    searches = [Search(paths, groups, value, loss) for value in inputs]
-    failed = [search for search in searches if search.bad is not None]
-    if not failed:
+    searches = _searches(paths, groups, inputs, loss)
+    failed = _shortest_failure(searches)
+    if failed is None:
         return Sufficient([sorted(list(search.origins)) for search in searches])
-    shortest = min(failed, key=lambda search: len(search.bad))
-    return Insufficient(shortest.value, shortest.bad)
+    return Insufficient(failed.value, failed.bad)
+
+
+def greatest_cost(program, plan, inputs, loss):
+    """The loss of a plan, or None if the plan is not sufficient with a loss."""
+    searches = _searches(paths_of(program, plan), plan[1], inputs, loss)
+    return _worst_of(searches) if _shortest_failure(searches) is None else None
 
 
 def decide(program, plan, inputs, *, loss=None):
@@ -55,11 +75,51 @@ def decide(program, plan, inputs, *, loss=None):
 def loss_of(program, plan, inputs):
     """The greatest cost of a crash, or None if the plan is not sufficient."""
     _check(program, plan, inputs, None)
-    paths = paths_of(program, plan)
-    searches = [Search(paths, plan[1], value, None) for value in inputs]
-    if not all([search.bad is None for search in searches]):
-        return None
-    return max([search.worst for search in searches])
+    return greatest_cost(program, plan, inputs, None)
+
+
+class Decisions:
+    """The decisions about some plans of a program that save something, or nothing at all, in their order.
+
+    `losses` has the loss of each sufficient plan, `against` a bad run with each other one: a pair
+    of an input and a list of numbers.
+    """
+
+    def __init__(self, program, plans, inputs, loss):
+        self.program = program
+        self.inputs = inputs
+        self.loss = loss
+        self.paths = {}
+        self.losses = {}
+        self.against = {}
+        for plan in plans:
+            self._add(plan)
+
+    def _paths_of(self, plan):
+        # Plans with the same saves share their paths, whatever their groups.
+        if plan[0] not in self.paths:
+            self.paths[plan[0]] = Paths(self.program, plan[0])
+        return self.paths[plan[0]]
+
+    def _add(self, plan):
+        searches = _searches(self._paths_of(plan), plan[1], self.inputs, self.loss)
+        failed = _shortest_failure(searches)
+        if failed is None:
+            self.losses[plan] = _worst_of(searches)
+        else:
+            self.against[plan] = (failed.value, failed.bad)
+
+    def runs_against(self, plans):
+        """A bad run with each of some plans that are not sufficient, without repetitions."""
+        runs = []
+        for plan in plans:
+            if self.against[plan] not in runs:
+                runs.append(self.against[plan])
+        return runs
+
+    def are_refuted(self, plans, runs):
+        """Whether for each of some plans one of some runs from the inputs is bad."""
+        return all([Judge(self._paths_of(plan), plan[1], self.loss).is_bad_with_one(runs) for plan in plans])
 
 
 class Sufficient(Evidence):

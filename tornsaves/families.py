@@ -1,10 +1,9 @@
 """The families of the sufficient plans of small programs."""
 
-from tornsaves.deciding import Sufficient, check_inputs, check_loss, decided
+from tornsaves.deciding import Decisions, check_inputs, check_loss
 from tornsaves.evidence import WithRuns, copied_runs
 from tornsaves.plans import all_plans, check_family_size, is_containing, is_splitting, names_in
 from tornsaves.programs import check_program
-from tornsaves.searching import Judge, Paths
 
 
 def _check(program, inputs, loss):
@@ -14,41 +13,14 @@ def _check(program, inputs, loss):
     check_loss(loss)
 
 
-class Decisions:
-    """The decisions about all plans of a program, in the order of the plans."""
-
-    def __init__(self, program, inputs, loss):
-        self.loss = loss
-        self.paths = {}
-        self.good = []
-        self.bad = []
-        self.runs = []
-        for plan in all_plans(program):
-            if plan[0] not in self.paths:
-                self.paths[plan[0]] = Paths(program, plan[0])
-            self._add(plan, decided(self.paths[plan[0]], plan[1], inputs, loss))
-
-    def _add(self, plan, found):
-        if isinstance(found, Sufficient):
-            self.good.append(plan)
-            return
-        self.bad.append(plan)
-        if (found.value, found.crashes) not in self.runs:
-            self.runs.append((found.value, found.crashes))
-
-    def has_bad_run(self, plan, runs):
-        """Whether one of some runs from inputs is bad with a plan."""
-        judge = Judge(self.paths[plan[0]], plan[1], self.loss)
-        for value, crashes in runs:
-            if judge.is_bad(value, crashes):
-                return True
-        return False
+def _decisions(program, inputs, loss):
+    _check(program, inputs, loss)
+    return Decisions(program, all_plans(program), inputs, loss)
 
 
 def sufficient_plans(program, inputs, *, loss=None):
     """The list of the sufficient plans."""
-    _check(program, inputs, loss)
-    return Decisions(program, inputs, loss).good
+    return list(_decisions(program, inputs, loss).losses)
 
 
 def _is_leaner(one, other):
@@ -58,15 +30,13 @@ def _is_leaner(one, other):
 
 def minimal_plans(program, inputs, *, loss=None):
     """The list of the sufficient plans that contain none with fewer saved variables or fewer saves."""
-    _check(program, inputs, loss)
-    good = Decisions(program, inputs, loss).good
+    good = list(_decisions(program, inputs, loss).losses)
     return [plan for plan in good if not any([is_containing(plan, one) and _is_leaner(one, plan) for one in good])]
 
 
 def finest_plans(program, inputs, *, loss=None):
     """The list of the sufficient plans that no other one splits."""
-    _check(program, inputs, loss)
-    good = Decisions(program, inputs, loss).good
+    good = list(_decisions(program, inputs, loss).losses)
     return [plan for plan in good if not any([is_splitting(one, plan) for one in good])]
 
 
@@ -95,16 +65,14 @@ def _is_next(large, small):
 
 def breaches(program, inputs, *, loss=None):
     """The list of the pairs of a sufficient plan and an insufficient one that differ by one change."""
-    _check(program, inputs, loss)
-    found = Decisions(program, inputs, loss)
-    return [(small, large) for small in found.good for large in found.bad if _is_next(large, small)]
+    found = _decisions(program, inputs, loss)
+    return [(small, large) for small in found.losses for large in found.against if _is_next(large, small)]
 
 
 def family(program, inputs, *, loss=None):
     """The Family of a program."""
-    _check(program, inputs, loss)
-    found = Decisions(program, inputs, loss)
-    return Family(found.good, found.runs)
+    found = _decisions(program, inputs, loss)
+    return Family(list(found.losses), found.runs_against(list(found.against)))
 
 
 class Family(WithRuns):
@@ -123,8 +91,7 @@ class Family(WithRuns):
 
     def is_correct(self, program, inputs, *, loss=None):
         """Whether the current fields are the family of a program, with a bad run for each other plan."""
-        _check(program, inputs, loss)
-        found = Decisions(program, inputs, loss)
-        if self.plans != found.good or not self.are_from(inputs):
+        found = _decisions(program, inputs, loss)
+        if self.plans != list(found.losses) or not self.are_from(inputs):
             return False
-        return all([found.has_bad_run(plan, self.runs) for plan in found.bad])
+        return found.are_refuted(list(found.against), self.runs)

@@ -45,7 +45,7 @@ class Paths:
         """Whether the run from a saved store does not stop, or not with the result of an input."""
         return self.ahead((0, store))[1] != self.ahead((0, value))[1]
 
-    def cost(self, store, left):
+    def crash_cost(self, store, left):
         """The cost of a crash with a saved store and a number of steps still to be executed."""
         return self.ahead((0, store))[0] - left
 
@@ -112,7 +112,7 @@ class Search:
             if self._is_bad(reached, left):
                 self.bad = self._crashes_up_to(store) + [moves]
                 return []
-            self.worst = max(self.worst, self.paths.cost(reached, left))
+            self.worst = max(self.worst, self.paths.crash_cost(reached, left))
             if reached not in self.origins:
                 self.origins[reached] = (store, moves)
                 found.append(reached)
@@ -121,7 +121,7 @@ class Search:
     def _is_bad(self, reached, left):
         if self.paths.is_wrong(reached, self.value):
             return True
-        return self.loss is not None and self.paths.cost(reached, left) > self.loss
+        return self.loss is not None and self.paths.crash_cost(reached, left) > self.loss
 
     def _crashes_up_to(self, store):
         crashes = []
@@ -150,7 +150,14 @@ class Judge:
             store, left = crashed
         if self.paths.is_wrong(store, value):
             return True
-        return self.loss is not None and left is not None and self.paths.cost(store, left) > self.loss
+        return self.loss is not None and left is not None and self.paths.crash_cost(store, left) > self.loss
+
+    def is_bad_with_one(self, runs):
+        """Whether one of some runs from inputs is bad."""
+        for value, crashes in runs:
+            if self.is_bad(value, crashes):
+                return True
+        return False
 
     def _crashed(self, store, moves):
         """The saved store and the steps still to be executed at a crash, or None if it is not possible.
