@@ -345,3 +345,37 @@ def renamed(program):
     others = dict(zip(("a", "b", "c", "d"), ("z", "b", "yy", "a")))
     words = [(row[0], *(others[part] if part in names else part for part in row[1:])) for row in steps]
     return tuple(others[name] for name in names), tuple(words)
+
+
+def on_the_way(program, plan, store):
+    """The saved stores after 0, 1, 2, ... moves of the run from a saved store, up to the stop or a situation twice."""
+    rows, situation, seen = [], (0, store, store, 0), set()
+    while situation[0] is not None and situation not in seen:
+        seen.add(situation)
+        rows.append(situation[2])
+        situation = after_move(program, plan, situation)
+    return rows
+
+
+def runs_up_to(program, plan, value, most):
+    """All runs with at most some crashes: the numbers, and the saved store; fewer numbers first, then as lists."""
+    rows = [([], value)]
+    for _ in range(most + 1):
+        yield from rows
+        rows = [
+            (crashes + [moves], reached)
+            for crashes, store in rows for moves, reached in enumerate(on_the_way(program, plan, store))
+        ]
+
+
+def first_runs(program, plan, value):
+    """For each store that can be reached, the first list among the shortest ones, by trying all numbers."""
+    found, level = {}, {value: []}
+    while level:
+        found.update(level)
+        rows = sorted(
+            (crashes + [moves], reached)
+            for store, crashes in level.items() for moves, reached in enumerate(on_the_way(program, plan, store))
+        )
+        level = {reached: crashes for crashes, reached in reversed(rows) if reached not in found}
+    return found

@@ -46,6 +46,10 @@ INTERFACE = {
         "extended": "(program, *positions)", "best_positions": "(program, groups, inputs, *, loss=None)",
         "Placed": "(positions, loss)",
     },
+    "origins": {"origins": "(program, plan, inputs, store)"},
+    "executions": {"Execution": "(program, plan, value)"},
+    "texts": {"written": "(program, plan)", "read": "(text)"},
+    "encoding": {"encode_crashes": "(crashes)", "decode_crashes": "(text)"},
 }
 METHODS = {
     ("deciding", "Sufficient", "is_correct"): "(self, program, plan, inputs, *, loss=None)",
@@ -54,6 +58,14 @@ METHODS = {
     ("evidence", "WithRuns", "are_from"): "(self, inputs)",
     ("dependence", "Dependences", "is_correct"): "(self, program, saves, names, inputs, *, loss=None)",
     ("costs", "Cheapest", "is_correct"): "(self, program, inputs, weights, *, loss=None)",
+    ("executions", "Execution", "move"): "(self)",
+    ("executions", "Execution", "crash"): "(self)",
+    ("executions", "Execution", "moves"): "(self, limit)",
+    ("executions", "Execution", "tried"): "(self, *events)",
+}
+PROPERTIES = {
+    ("evidence", "Evidence"): ["fields"], ("evidence", "WithRuns"): ["fields"],
+    ("executions", "Execution"): ["state", "is_over", "history", "result"],
 }
 
 
@@ -75,11 +87,18 @@ class Interface(unittest.TestCase):
         for (name, word, method), parameters in METHODS.items():
             found = vars(getattr(import_module(f"tornsaves.{name}"), word))[method]
             self.assertEqual(str(inspect.signature(found)), parameters)
-        for word in ("Evidence", "WithRuns"):
-            self.assertIsInstance(vars(getattr(import_module("tornsaves.evidence"), word))["fields"], property)
+        for (name, word), rows in PROPERTIES.items():
+            for found in rows:
+                self.assertIsInstance(vars(getattr(import_module(f"tornsaves.{name}"), word))[found], property)
 
-    def test_trace_is_a_generator(self):
+    def test_class_method(self):
+        found = vars(import_module("tornsaves.executions").Execution)["after"]
+        self.assertIsInstance(found, classmethod)
+        self.assertEqual(str(inspect.signature(found.__func__)), "(cls, program, plan, value, crashes)")
+
+    def test_generators(self):
         self.assertTrue(inspect.isgeneratorfunction(import_module("tornsaves.runs").trace))
+        self.assertTrue(inspect.isgeneratorfunction(import_module("tornsaves.executions").Execution.moves))
 
 
 class Language(unittest.TestCase):
@@ -116,7 +135,7 @@ class Language(unittest.TestCase):
                 self.assertNotIsInstance(node, NODES if path.name != "runs.py" else tuple(set(NODES) - {ast.Mod}))
                 if isinstance(node, ast.Name) and hasattr(builtins, node.id):
                     self.assertIsInstance(node.ctx, ast.Load)
-                    self.assertIn(node.id, ALLOWED | {"property"}, path)
+                    self.assertIn(node.id, ALLOWED | {"property", "classmethod"}, path)
                 if isinstance(node, (ast.arg, ast.FunctionDef)):
                     name = node.arg if isinstance(node, ast.arg) else node.name
                     self.assertTrue(name.startswith("__") or not hasattr(builtins, name), name)

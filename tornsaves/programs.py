@@ -37,10 +37,11 @@ def is_program(value):
 def _are_variables(value):
     if not isinstance(value, tuple) or not 1 <= len(value) <= MOST_VARIABLES:
         return False
-    return all([_is_name(name) for name in value]) and len(set(value)) == len(value)
+    return all([is_name(name) for name in value]) and len(set(value)) == len(value)
 
 
-def _is_name(value):
+def is_name(value):
+    """Whether a value of any kind is a name of a variable."""
     if not isinstance(value, str) or not 1 <= len(value) <= MOST_LETTERS:
         return False
     return all([letter in LETTERS for letter in value])

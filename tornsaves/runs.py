@@ -71,12 +71,17 @@ def trace(program, plan, store, *, most=1000):
             completed += 1
 
 
-def replay(program, plan, value, crashes):
-    """The list of the saved stores at the beginning of a run from an input and after each crash."""
+def check_start(program, plan, value):
+    """Raises InvalidProgram, InvalidPlan or NotInput if there is no run with a plan from a value."""
     check_program(program)
     check_plan(program, plan)
     if not is_input(program, value):
         raise NotInput("not an input of the program")
+
+
+def replay(program, plan, value, crashes):
+    """The list of the saved stores at the beginning of a run from an input and after each crash."""
+    check_start(program, plan, value)
     if not isinstance(crashes, (list, tuple)):
         raise InvalidCrashes(None)
     stores = [value]

@@ -74,6 +74,19 @@ class Paths:
         return found
 
 
+def crashes_up_to(before, store):
+    """The list of the numbers of moves before each crash, up to a store.
+
+    The dict has, for each store, the preceding store and the number of moves up to the crash, or None
+    for the first store.
+    """
+    crashes = []
+    while before[store] is not None:
+        store, moves = before[store]
+        crashes.append(moves)
+    return crashes[::-1]
+
+
 class Search:
     """All runs of a plan from an input, those with fewer crashes first, up to the first bad one.
 
@@ -110,7 +123,7 @@ class Search:
         found = []
         for moves, reached, left in self.paths.stretches(self.groups, store, self.passed):
             if self._is_bad(reached, left):
-                self.bad = self._crashes_up_to(store) + [moves]
+                self.bad = crashes_up_to(self.origins, store) + [moves]
                 return []
             self.worst = max(self.worst, self.paths.crash_cost(reached, left))
             if reached not in self.origins:
@@ -122,13 +135,6 @@ class Search:
         if self.paths.is_wrong(reached, self.value):
             return True
         return self.loss is not None and self.paths.crash_cost(reached, left) > self.loss
-
-    def _crashes_up_to(self, store):
-        crashes = []
-        while self.origins[store] is not None:
-            store, moves = self.origins[store]
-            crashes.append(moves)
-        return crashes[::-1]
 
 
 class Judge:
