@@ -199,6 +199,19 @@ class Certificate(unittest.TestCase):
                 if moves < 20:
                     self.assertEqual(self.has_bad(program, ((4, 6), (("a",),)), found.runs, loss), moves < 9)
 
+    def test_numbers_that_describe_no_run(self):
+        # From 1 on, the run never stops, and saves 1 again and again.
+        program = (("a",), (
+            ("if", "a", 3), ("set", "a", 1), ("go", 6), ("set", "a", 1), ("save",), ("go", 3), ("save",), ("stop", "a"),
+        ))
+        good = sufficient_plans(program, [(0,)])
+        self.assertEqual(good, [EMPTY, ((4,), (("a",),))])
+        for moves in (-1000000, -4, -1, 0, 1, 4, 1000, 999999, 1000000, 1000001, 1000002, 10 ** 30):
+            for crashes in ([4, moves], [4, moves, 3], [4, 2, moves]):
+                answer = Family(good, [((0,), crashes)]).is_correct(program, [(0,)])
+                self.assertIs(answer, 0 <= moves <= 1000000, crashes)
+            self.assertIs(Family(good, [((0,), [moves, 4])]).is_correct(program, [(0,)]), moves in (0, 1, 4), moves)
+
     def test_plans_must_be_all_and_in_order(self):
         found = family(TOTAL, [ZERO])
         good = found.plans
