@@ -56,7 +56,7 @@ def decided(paths, groups, inputs, loss):
     searches = _searches(paths, groups, inputs, loss)
     failed = _shortest_failure(searches)
     if failed is None:
-        return Sufficient([sorted(list(search.origins)) for search in searches])
+        return Sufficient([sorted(list(search.before)) for search in searches])
     return Insufficient(failed.value, failed.bad)
 
 

@@ -90,7 +90,7 @@ def crashes_up_to(before, store):
 class Search:
     """All runs of a plan from an input, those with fewer crashes first, up to the first bad one.
 
-    `origins` has, for each store that has been reached, the preceding store and the number of moves
+    `before` has, for each store that has been reached, the preceding store and the number of moves
     up to the crash; `worst` is the greatest cost of a crash; `bad` is the list of numbers of the bad
     run, or None.
     """
@@ -100,7 +100,7 @@ class Search:
         self.groups = groups
         self.value = value
         self.loss = loss
-        self.origins = {value: None}
+        self.before = {value: None}
         self.passed = {}
         self.worst = 0
         self.bad = None
@@ -123,11 +123,11 @@ class Search:
         found = []
         for moves, reached, left in self.paths.stretches(self.groups, store, self.passed):
             if self._is_bad(reached, left):
-                self.bad = crashes_up_to(self.origins, store) + [moves]
+                self.bad = crashes_up_to(self.before, store) + [moves]
                 return []
             self.worst = max(self.worst, self.paths.crash_cost(reached, left))
-            if reached not in self.origins:
-                self.origins[reached] = (store, moves)
+            if reached not in self.before:
+                self.before[reached] = (store, moves)
                 found.append(reached)
         return found
 
